@@ -1,0 +1,1 @@
+"""Rooms with stoves, and whether every room stays within its band."""
